@@ -1,0 +1,1 @@
+"""Lyingstandins: checks that keep stand-ins honest."""
