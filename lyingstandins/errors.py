@@ -25,7 +25,8 @@ class BadAnswer(StandInError):
     """An answer that does not have the form of the answers to its deed."""
 
     def __init__(self, deed, answer):
-        super().__init__(f"not an answer to {deed!r}: {answer!r}")
+        # The answer may be anything, also what cannot be written out, as a huge number.
+        super().__init__(f"not an answer to {deed!r}")
         self.deed = deed
         self.answer = answer
 
