@@ -255,6 +255,14 @@ class RefuserTest(unittest.TestCase):
                 expected = oracle.first_refuser(checks, event, standing, "a")
                 self.assertEqual(Book(checks).refuser(event, standing), expected)
 
+    def test_a_deed_has_a_name_of_its_own(self):
+        book = Book.parsed(["look gone if there", "get there if other", "set done if firm"])
+        field = ((1, False, True), True)
+        for event in ((("look", "c"), None), (("get", "c"), 2), (("set", "c", 5), True)):
+            self.assertEqual(book.refuser(event, field)[0], event[0][0])
+        self.assertIsNone(book.refuser((("look", "c"), (1, False, True)), field))
+        self.assertIsNone(book.refuser((("get", "c"), 1), field))
+
     def test_the_first_one_in_the_order_of_the_book(self):
         wide, narrow = parse_check("look if"), parse_check("look gone if there")
         event, there, gone = (("look", "a"), None), ((5, True, True), False), (None, False)

@@ -11,8 +11,8 @@ from lyingstandins.lists import implied, least_lists, made_up, needed, parting, 
 from lyingstandins.things import Script, StandIn, Thing
 
 ALL = list(oracle.PROMISES)
-# Far more than is needed here, so that a busy machine does not fail a test.
-SECONDS = 8
+# A test makes several calls, and each takes a second or two at most; the rest is for a busy machine.
+SECONDS = 30
 
 
 class BoundsTest(unittest.TestCase):
